@@ -276,6 +276,8 @@ func TestCommitNone(t *testing.T) { // P302, P2
 	r.holds(t, "P302: none, one commit")
 	r.open(t)
 	r.holds(t, "P302: none, opened again")
+	kill(r.d)
+	answers(t, "P302: none, on a disk that has stopped", r.l.Commit(), api.OK)
 }
 
 // wrong are commits that are refused, whatever the disk does, of one that has 60 sectors.
